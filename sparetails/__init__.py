@@ -1,0 +1,1 @@
+"""Sparetails: windows on rows that grow in place, and programs with them."""

@@ -1,0 +1,205 @@
+"""The files of the package: how they are written, and that the interface stands where it is listed."""
+import ast
+import builtins
+import pathlib
+import unittest
+
+FOLDER = pathlib.Path(__file__).resolve().parent.parent / "sparetails"
+
+INTERFACE = {
+    "errors": {name: [] for name in (
+        "TailError Wrong BadStatement Endless Unknown NoCell BadRoom Nothing Unfit NoArray Broken NoPlace TooMany "
+        "NoFunction Unlike Full NoDeed Refused NoEntry NoText NoCommand").split()},
+    "kinds": ["is_integer", "is_name", "is_number", "is_growing"],
+    "statements": ["is_statement", "bodies", "read", "named", "made", "copying", "sharing"],
+    "programs": {"Program": ["__init__", "__eq__", "functions", "reached", "parameters", "names", "calls", "result"]},
+}
+BUILTINS = """len range enumerate zip min max sum abs sorted reversed int str bool bytes list tuple dict set frozenset
+    isinstance ord repr any all divmod Exception ValueError TypeError KeyError IndexError LookupError
+    ZeroDivisionError ArithmeticError OverflowError RuntimeError NotImplementedError AttributeError StopIteration
+    NotImplemented property""".split()
+METHODS = """append clear copy count endswith extend find get index insert isalnum isalpha isdigit islower isspace
+    isupper items join keys ljust lower lstrip partition pop remove replace reverse rfind rjust rpartition rsplit
+    rstrip setdefault split splitlines startswith strip update upper values zfill bit_length add discard""".split()
+BARRED = """register mro elements open input law version_info with_traceback add_note attrgetter breakpoint compile
+    copyright credits delattr dir eval exec exit gc getattr globals hasattr help id importlib license locals
+    methodcaller os quit setattr super type vars sys""".split()
+DOUBLE = """__init__ __eq__ __len__ __call__ __iter__ __iadd__ __contains__ __getitem__ __setitem__""".split()
+PURE = ["__eq__", "__len__", "__contains__", "__getitem__", "__iter__"]
+BARRED_NODES = (
+    ast.Global, ast.Nonlocal, ast.AsyncFunctionDef, ast.Await, ast.Lambda, ast.Try, ast.With, ast.Match, ast.Set,
+    ast.SetComp, ast.GeneratorExp, ast.JoinedStr, ast.Delete, ast.NamedExpr, ast.Div, ast.MatMult, ast.Assert,
+    ast.Yield, ast.YieldFrom, ast.AnnAssign, ast.Import,
+)
+
+
+class Files(unittest.TestCase):
+    @classmethod
+    def setUpClass(cls):
+        cls.texts = {path.stem: path.read_bytes().decode("utf-8") for path in sorted(FOLDER.glob("*.py"))}
+        cls.trees = {name: ast.parse(text) for name, text in cls.texts.items()}
+        cls.defined = {name: cls.bound(tree) for name, tree in cls.trees.items()}
+
+    @staticmethod
+    def bound(tree):
+        found = []
+        for node in tree.body:
+            if isinstance(node, (ast.FunctionDef, ast.ClassDef)):
+                found.append(node.name)
+            if isinstance(node, ast.Assign):
+                found.append(node.targets[0].id)
+        return found
+
+    def nodes(self, *kinds):
+        for name, tree in self.trees.items():
+            for node in ast.walk(tree):
+                if isinstance(node, kinds):
+                    yield name, node
+
+    def test_the_folder_holds_nothing_else(self):
+        for path in FOLDER.iterdir():
+            self.assertTrue(path.suffix == ".py" or path.name == "__pycache__", path.name)
+            self.assertEqual(path.name, path.name.lower())
+
+    def test_lines(self):
+        for name, text in self.texts.items():
+            lines = text.split("\n")
+            self.assertLessEqual(len(lines), 399, name)
+            self.assertLessEqual(max(map(len, lines)), 120, name)
+            self.assertTrue(all(char == "\n" or " " <= char <= "~" for char in text), name)
+            self.assertTrue(text.endswith("\n") and not text.endswith("\n\n"), name)
+
+    def test_functions_are_small(self):
+        for name, node in self.nodes(ast.FunctionDef):
+            self.assertLessEqual(node.end_lineno - node.lineno + 1, 40, (name, node.name))
+
+    def test_module_level(self):
+        allowed = (ast.ImportFrom, ast.FunctionDef, ast.ClassDef, ast.Assign)
+        for name, tree in self.trees.items():
+            self.assertTrue(ast.get_docstring(tree), name)
+            kinds = [type(node) for node in tree.body[1:]]
+            self.assertTrue(all(kind in allowed for kind in kinds), name)
+            imports = [at for at, kind in enumerate(kinds) if kind is ast.ImportFrom]
+            self.assertEqual(imports, list(range(len(imports))), name)
+            self.assertEqual(len(self.defined[name]), len(set(self.defined[name])), name)
+
+    def test_imports(self):
+        known = {}
+        for name, node in self.nodes(ast.ImportFrom):
+            package, _, file = node.module.partition(".")
+            self.assertEqual((package, node.level), ("sparetails", 0))
+            for alias in node.names:
+                self.assertIsNone(alias.asname)
+                self.assertIn(alias.name, self.defined[file])
+            known.setdefault(name, set()).add(file)
+        done = set()
+        while set(self.trees) - done:
+            free = {name for name in set(self.trees) - done if known.get(name, set()) <= done}
+            self.assertTrue(free, "files import from one another in a circle")
+            done |= free
+
+    def test_every_import_is_used(self):
+        for name, tree in self.trees.items():
+            used = {node.id for node in ast.walk(tree) if isinstance(node, ast.Name)}
+            for node in tree.body:
+                if isinstance(node, ast.ImportFrom):
+                    self.assertLessEqual({alias.name for alias in node.names}, used, name)
+
+    def test_names(self):
+        for name, tree in self.trees.items():
+            imported = {a.name for node in tree.body if isinstance(node, ast.ImportFrom) for a in node.names}
+            classes = {node.name for node in tree.body if isinstance(node, ast.ClassDef)}
+            local = {node.arg for node in ast.walk(tree) if isinstance(node, ast.arg)}
+            stored = {n.id for n in ast.walk(tree) if isinstance(n, ast.Name) and isinstance(n.ctx, ast.Store)}
+            local |= stored - set(self.defined[name])
+            self.assertFalse((local | stored) & (imported | classes | set(dir(builtins))), name)
+            known = local | imported | set(self.defined[name]) | set(BUILTINS)
+            for node in ast.walk(tree):
+                if isinstance(node, ast.Name):
+                    self.assertIn(node.id, known, name)
+                    self.assertNotIn(node.id, BARRED, name)
+            self.assertFalse(set(self.defined[name]) & set(dir(builtins)), name)
+
+    def test_parts_of_the_language_that_are_not_used(self):
+        for name, node in self.nodes(*BARRED_NODES):
+            self.fail(f"{name}, line {node.lineno}: {type(node).__name__}")
+        for name, node in self.nodes(ast.Constant):
+            self.assertNotIsInstance(node.value, (float, complex))
+            if isinstance(node.value, str):
+                self.assertNotIn("%", node.value)
+        for name, node in self.nodes(ast.Compare):
+            for operator, side in zip(node.ops, node.comparators):
+                if isinstance(operator, (ast.Is, ast.IsNot)):
+                    self.assertIsInstance(side, ast.Constant)
+
+    def test_methods_and_attributes(self):
+        methods, stored = set(), set()
+        for _, node in self.nodes(ast.ClassDef):
+            inside = {part.name for part in node.body if isinstance(part, ast.FunctionDef)}
+            mine = {part.attr for part in ast.walk(node)
+                    if isinstance(part, ast.Attribute) and isinstance(part.ctx, ast.Store)}
+            self.assertFalse(inside & mine, node.name)
+            methods |= inside
+            stored |= mine
+        self.assertFalse({name for name in methods if name.startswith("__")} - set(DOUBLE))
+        self.assertNotIn("keys", methods | stored)
+        self.assertFalse((methods | stored) & set(BARRED))
+        self.assertFalse(methods & stored)
+        for name, node in self.nodes(ast.Call):
+            if isinstance(node.func, ast.Attribute):
+                self.assertIn(node.func.attr, methods | set(METHODS), name)
+        for name, node in self.nodes(ast.Attribute):
+            self.assertIn(node.attr, methods | stored | set(METHODS), name)
+
+    def test_decorators_and_classes(self):
+        for name, node in self.nodes(ast.FunctionDef):
+            told = [one.id for one in node.decorator_list]
+            self.assertIn(told, ([], ["property"]), name)
+            if node.name == "__len__":
+                self.assertEqual(node.body[-1].value.func.id, "len", name)
+        for name, node in self.nodes(ast.ClassDef):
+            kinds = [type(part) for part in node.body if not isinstance(part, ast.Expr)]
+            self.assertLessEqual(set(kinds), {ast.FunctionDef}, (name, node.name))
+            names = [part.name for part in node.body if isinstance(part, ast.FunctionDef)]
+            self.assertEqual(len(names), len(set(names)), (name, node.name))
+            if "__getitem__" in names:
+                self.assertIn("__iter__", names)
+
+    def test_operators_and_properties_change_nothing(self):
+        for name, node in self.nodes(ast.FunctionDef):
+            if node.name in PURE or node.decorator_list:
+                for part in ast.walk(node):
+                    self.assertNotIsInstance(part, (ast.AugAssign, ast.For, ast.While), (name, node.name))
+                    if isinstance(part, (ast.Attribute, ast.Subscript)):
+                        self.assertIsInstance(part.ctx, ast.Load, (name, node.name))
+
+    def test_tables_at_module_level_hold_no_lists(self):
+        for name, tree in self.trees.items():
+            for node in tree.body:
+                if isinstance(node, ast.Assign) and isinstance(node.value, (ast.List, ast.Tuple, ast.Dict)):
+                    inner = [part for part in ast.walk(node.value) if part is not node.value]
+                    self.assertFalse([part for part in inner if isinstance(part, (ast.List, ast.Dict))], name)
+
+    def test_what_a_loop_goes_over_is_not_changed_in_it(self):
+        changing = ("append", "clear", "extend", "insert", "pop", "remove", "reverse", "setdefault", "update")
+        for name, node in self.nodes(ast.For):
+            gone_over = {ast.unparse(part) for part in ast.walk(node.iter) if isinstance(part, (ast.Name, ast.Attribute))}
+            for part in [inner for line in node.body for inner in ast.walk(line)]:
+                if isinstance(part, ast.Call) and isinstance(part.func, ast.Attribute) and part.func.attr in changing:
+                    self.assertNotIn(ast.unparse(part.func.value), gone_over, (name, node.lineno))
+                if isinstance(part, ast.Subscript) and isinstance(part.ctx, ast.Store):
+                    self.assertNotIn(ast.unparse(part.value), gone_over, (name, node.lineno))
+
+    def test_the_interface(self):
+        for name, listed in INTERFACE.items():
+            defined = {node.name: node for node in self.trees[name].body
+                       if isinstance(node, (ast.FunctionDef, ast.ClassDef))}
+            for told in listed:
+                self.assertIn(told, defined, name)
+                if isinstance(listed, dict):
+                    methods = [part.name for part in defined[told].body if isinstance(part, ast.FunctionDef)]
+                    self.assertLessEqual(set(listed[told]), set(methods), told)
+
+
+if __name__ == "__main__":
+    unittest.main()
