@@ -27,6 +27,6 @@ def is_growing(thing):
     return isinstance(thing, str) and thing in GROWINGS
 
 
-def is_row(thing):
+def is_listed(thing):
     """Whether thing is a list or a tuple."""
     return isinstance(thing, (list, tuple))

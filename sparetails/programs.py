@@ -1,6 +1,6 @@
 """Programs: functions with parameters, a body and a result."""
 from sparetails.errors import Endless, Unknown, Wrong
-from sparetails.kinds import is_name, is_row
+from sparetails.kinds import is_listed, is_name
 from sparetails.layouts import Layout
 from sparetails.statements import own_names, renewed
 
@@ -8,7 +8,7 @@ MOST_PARAMETERS = 2
 
 
 def _are_parameters(thing):
-    if not is_row(thing) or len(thing) > MOST_PARAMETERS:
+    if not is_listed(thing) or len(thing) > MOST_PARAMETERS:
         return False
     return all([is_name(name) for name in thing]) and len(set(thing)) == len(thing)
 
@@ -17,7 +17,7 @@ def _is_function(thing):
     if not isinstance(thing, tuple) or len(thing) != 3:
         return False
     parameters, body, result = thing
-    return _are_parameters(parameters) and is_row(body) and is_name(result)
+    return _are_parameters(parameters) and is_listed(body) and is_name(result)
 
 
 def _are_functions(thing):
@@ -125,7 +125,6 @@ class Program:
 
     def addresses(self, function):
         """The ascending list of the addresses in a function, its end too."""
-        self._check(function)
         return self._layouts[function].addresses()
 
     def spot_at(self, place):

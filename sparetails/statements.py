@@ -1,5 +1,5 @@
 """Statements: which values are statements, and what stands in one."""
-from sparetails.kinds import is_name, is_row
+from sparetails.kinds import is_listed, is_name
 
 NAMES_IN = {
     "new": 1, "set": 1, "keep": 1, "look": 1,
@@ -16,11 +16,11 @@ def _are_names(things):
 
 
 def _are_passed(thing):
-    return is_row(thing) and len(thing) <= MOST_PASSED and _are_names(thing)
+    return is_listed(thing) and len(thing) <= MOST_PASSED and _are_names(thing)
 
 
 def _are_bodies(thing):
-    return is_row(thing) and len(thing) > 0 and all([is_row(body) for body in thing])
+    return is_listed(thing) and len(thing) > 0 and all([is_listed(body) for body in thing])
 
 
 def is_head(thing):
@@ -33,7 +33,7 @@ def is_head(thing):
     if word == "call":
         return len(thing) == 4 and _are_names(thing[1:3]) and _are_passed(thing[3])
     if word == "loop":
-        return len(thing) == 2 and is_row(thing[1])
+        return len(thing) == 2 and is_listed(thing[1])
     return word == "either" and len(thing) == 2 and _are_bodies(thing[1])
 
 

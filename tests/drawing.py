@@ -1,5 +1,7 @@
 """What the tests draw: statements, programs and values of any kind, from a seeded source."""
 from sparetails.errors import Endless
+from sparetails.machine import Machine
+from sparetails.places import statement_at
 from sparetails.programs import Program
 
 NAMES = ("p", "q", "r", "s")
@@ -17,7 +19,7 @@ STRANGE = (
 def drawn_statement(source, counts, left, depth, names=NAMES):
     """A statement; counts tells the parameters of the functions to call, left[0] how many may come."""
     left[0] -= 1
-    words = list(ONE + TWO) + ["put", "put", "take"] + (["call"] * 2 if counts else [])
+    words = list(ONE + TWO) + ["put", "put", "take", "cut", "look", "look"] + (["call"] * 2 if counts else [])
     if depth and left[0] > 0:
         words += ["either", "loop", "loop"]
     word = source.choice(words)
@@ -32,8 +34,8 @@ def drawn_statement(source, counts, left, depth, names=NAMES):
     return (word, *[source.choice(names) for _ in range(1 if word in ONE else 2)])
 
 
-def drawn_body(source, counts, left, depth, names=NAMES):
-    many = source.randint(0, 5)
+def drawn_body(source, counts, left, depth, names=NAMES, many=5):
+    many = source.randint(0, many)
     body = []
     while len(body) < many and left[0] > 0:
         body.append(drawn_statement(source, counts, left, depth, names))
@@ -48,7 +50,8 @@ def drawn_functions(source, most=12, depth=3, names=NAMES):
     for name in ["main"] + others:
         many = counts.get(name, source.randint(0, 2))
         parameters = source.sample(names, many)
-        told[name] = (parameters, drawn_body(source, counts, [most], depth, names), source.choice(names))
+        body = drawn_body(source, counts, [most], depth, names, most)
+        told[name] = (parameters, body, source.choice(names))
     return told
 
 
@@ -66,6 +69,32 @@ def nested(depth, inner, word="loop"):
     for _ in range(depth):
         body = [("loop", body)] if word == "loop" else [("either", [[], body])]
     return body
+
+
+def bounds_of_room(program, machine, many):
+    """The bounds of the room that the next step asks for if so many marks are put, or None."""
+    statement = statement_at(program, machine.here())
+    if machine.run()[0] == "exact" or statement is None or statement[0] not in ("put", "copyput"):
+        return None
+    array, length = machine.names()[statement[2]]
+    if statement[0] == "put" and length + many <= machine.room_of(array):
+        return None
+    return (length + many, 10 ** 40)
+
+
+def drawn_data(source, program, machine):
+    """Data with which a step can be done, with small numbers of marks and little spare room."""
+    data = [source.randint(low, 3 if high == 1000 else high) for low, high in machine.wanted()]
+    room = bounds_of_room(program, machine, data[0]) if data else None
+    return tuple(data if room is None else data + [room[0] + source.randint(0, 4)])
+
+
+def drawn_machine(source, program, growing, steps):
+    """A Machine behind so many drawn steps, or fewer if the run is over."""
+    machine = Machine(program, growing, [source.randint(1, 3) for _ in program.names("main")])
+    while len(machine) < steps and not machine.is_over():
+        machine.step(drawn_data(source, program, machine))
+    return machine
 
 
 def lists_in(thing):

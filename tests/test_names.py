@@ -2,9 +2,11 @@
 import random
 import unittest
 
+from sparetails.machine import Machine
+from sparetails.places import all_places, statement_at, ways
 from sparetails.programs import Program
 from sparetails.statements import bodies, copying, made, named, read, sharing
-from tests.drawing import drawn_program
+from tests.drawing import drawn_machine, drawn_program
 
 NEWER = {"p": "aa", "q": "ab", "r": "kkkkkkkk", "s": "zz"}
 # "main" keeps its name, so the others have to stay on their sides of it.
@@ -27,6 +29,14 @@ def renamed_program(program):
         CALLED[name]: ([NEWER[one] for one in parameters], [renamed(item) for item in body], NEWER[result])
         for name, (parameters, body, result) in told.items()
     })
+
+
+def renamed_place(place):
+    return None if place is None else (CALLED[place[0]], place[1])
+
+
+def renamed_windows(windows):
+    return {NEWER[name]: window for name, window in windows.items()}
 
 
 class Names(unittest.TestCase):
@@ -57,6 +67,29 @@ class Names(unittest.TestCase):
                     for asked in (copying, sharing):
                         want = asked(item)
                         self.assertEqual(asked(other), None if want is None else renamed(want))
+
+    def test_places(self):
+        for program in self.drawn:
+            other = renamed_program(program)
+            self.assertEqual(all_places(other), [renamed_place(place) for place in all_places(program)])
+            for place in all_places(program):
+                statement = statement_at(program, place)
+                want = None if statement is None else renamed(statement)
+                self.assertEqual(statement_at(other, renamed_place(place)), want)
+                self.assertEqual(ways(other, renamed_place(place)), [renamed_place(way) for way in ways(program, place)])
+
+    def test_machines(self):
+        source = random.Random(131)
+        for program in self.drawn:
+            machine = drawn_machine(source, program, "spare", 40)
+            growing, begins, data = machine.run()
+            other = Machine(renamed_program(program), growing, begins)
+            for told in data:
+                other.step(told)
+            self.assertEqual(other.calls(), [(renamed_place(place), renamed_windows(held))
+                                             for place, held in machine.calls()])
+            self.assertEqual(other.looks(), [(renamed_place(place), *told) for place, *told in machine.looks()])
+            self.assertEqual((other.store(), other.wanted()), (machine.store(), machine.wanted()))
 
 
 if __name__ == "__main__":

@@ -44,6 +44,11 @@ class IsStatement(unittest.TestCase):
             self.assertIs(is_statement((word, "s")), False, word)
             self.assertIs(is_statement((word, "t", "s")), False, word)
             self.assertIs(is_statement((word, [])), False, word)
+            self.assertIs(is_statement((word, [[]])), False, word)
+            self.assertIs(is_statement((word, "t", "f", ())), False, word)
+        for thing in SIMPLE:
+            self.assertIs(is_statement((thing[0], [[]])), False, thing)
+            self.assertIs(is_statement((thing[0], [])), False, thing)
 
     def test_what_is_no_name(self):
         for bad in ("", "abcdefghi", "S", "a1", None, True, 0, ("s",), ["s"], {}):
