@@ -30,3 +30,8 @@ def is_growing(thing):
 def is_listed(thing):
     """Whether thing is a list or a tuple."""
     return isinstance(thing, (list, tuple))
+
+
+def is_address(thing):
+    """Whether thing is a tuple of integers, as an address is, wherever it leads."""
+    return isinstance(thing, tuple) and all([is_integer(at) for at in thing])

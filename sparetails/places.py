@@ -1,10 +1,17 @@
 """Places: what stands at them, and where the statements there lead."""
+from sparetails.errors import NoPlace
 from sparetails.statements import renewed
+
+
+def check_place(program, place):
+    """Raises NoPlace for what is no place of the program."""
+    if not program.has_place(place):
+        raise NoPlace(place)
 
 
 def all_places(program):
     """The ascending list of all places of a program, ends too."""
-    return [(function, address) for function in program.functions() for address in program.addresses(function)]
+    return [(function, address) for function in program.all_functions() for address in program.addresses(function)]
 
 
 def statement_at(program, place):

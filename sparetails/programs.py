@@ -1,6 +1,6 @@
 """Programs: functions with parameters, a body and a result."""
 from sparetails.errors import Endless, Unknown, Wrong
-from sparetails.kinds import is_listed, is_name
+from sparetails.kinds import is_address, is_listed, is_name
 from sparetails.layouts import Layout
 from sparetails.statements import own_names, renewed
 
@@ -123,9 +123,22 @@ class Program:
                     waiting.append(name)
         return sorted(list(found))
 
+    def all_functions(self):
+        """The ascending list of the names of all functions."""
+        return list(self._layouts)
+
     def addresses(self, function):
         """The ascending list of the addresses in a function, its end too."""
         return self._layouts[function].addresses()
+
+    def has_place(self, thing):
+        """Whether thing, any value, is a place of the program."""
+        if not isinstance(thing, tuple) or len(thing) != 2:
+            return False
+        function, address = thing
+        if not is_name(function) or function not in self._layouts:
+            return False
+        return is_address(address) and address in self._layouts[function].spots
 
     def spot_at(self, place):
         """The Spot at a place: what the package looks at, and does not change."""

@@ -1,8 +1,9 @@
-"""What the tests draw: statements, programs and values of any kind, from a seeded source."""
+"""What the tests draw: statements, programs, runs and values of any kind, from a seeded source; and shadows of runs."""
 from sparetails.errors import Endless
 from sparetails.machine import Machine
-from sparetails.places import statement_at
+from sparetails.places import after, statement_at
 from sparetails.programs import Program
+from sparetails.watching import alive, watched
 
 NAMES = ("p", "q", "r", "s")
 ONE = ("new", "set", "keep", "look")
@@ -14,6 +15,23 @@ STRANGE = (
     ("new", "s"), ["new", "s"], ("look", "s"), ("either", []), ("either", [[]]), ("loop", []), ("loop",),
     ("call", "t", "f", ()), {"main": ([], [])}, {"main": ()}, ([], [], "s"), len, object,
 )
+
+PUT = ("put", "s", "s")
+
+
+def main(body, result="s", **others):
+    """The Program with this body of main, and perhaps other functions."""
+    return Program({"main": ([], body, result), **others})
+
+
+def at(*address):
+    """The place with this address in main."""
+    return ("main", address)
+
+
+def in_f(*address):
+    """The place with this address in f."""
+    return ("f", address)
 
 
 def drawn_statement(source, counts, left, depth, names=NAMES):
@@ -63,6 +81,43 @@ def drawn_program(source, most=12, depth=3, names=NAMES):
             continue
 
 
+def dense_body(source, counts, left, depth, names):
+    """A body in which much is put, taken, cut and called."""
+    words = ["put"] * 6 + ["take", "cut"] * 3 + ["keep", "look", "set", "copy", "copycut", "copyput", "new"]
+    words += ["call"] * 4 if counts else []
+    words += ["loop", "loop", "either"] if depth else []
+    body = []
+    for _ in range(source.randint(3, 7)):
+        if left[0] == 0:
+            break
+        left[0] -= 1
+        word = source.choice(words)
+        if word == "either":
+            body.append((word, [dense_body(source, counts, left, depth - 1, names), []]))
+        elif word == "loop":
+            body.append((word, dense_body(source, counts, left, depth - 1, names)))
+        elif word == "call":
+            called = source.choice(sorted(counts))
+            body.append((word, source.choice(names), called, tuple(source.choice(names) for _ in range(counts[called]))))
+        else:
+            body.append((word, *[source.choice(names) for _ in range(1 if word in ONE else 2)]))
+    return body
+
+
+def dense_program(source, names, most=11):
+    """A program that fills its table: names that are alive long, and looked at in the end."""
+    while True:
+        counts = {name: source.randint(1, 2) for name in ["f", "g"][:source.randint(0, 2)]}
+        told = {}
+        for name in ["main", *counts]:
+            body = dense_body(source, counts, [most - 1], 2, names) + [(source.choice(["look", "keep"]), source.choice(names))]
+            told[name] = (source.sample(names, counts.get(name, 0)), body, source.choice(names))
+        try:
+            return Program(told)
+        except Endless:
+            continue
+
+
 def nested(depth, inner, word="loop"):
     """A body that has the inner body within as many loops, or eithers."""
     body = inner
@@ -95,6 +150,24 @@ def drawn_machine(source, program, growing, steps):
     while len(machine) < steps and not machine.is_over():
         machine.step(drawn_data(source, program, machine))
     return machine
+
+
+def orders_of(points):
+    """All orders of some points."""
+    if not points:
+        return [()]
+    found = []
+    for order in orders_of(points[1:]):
+        for k in range(len(order)):
+            found.append(order[:k] + (tuple(sorted(order[k] + (points[0],))),) + order[k + 1:])
+        found += [order[:k] + ((points[0],),) + order[k:] for k in range(len(order) + 1)]
+    return found
+
+
+def drawn_order(source, points):
+    """An order of some points."""
+    heights = {point: source.randint(1, len(points)) for point in points}
+    return order_of(heights)
 
 
 def lists_in(thing):
@@ -132,3 +205,126 @@ def spoil(thing):
             item.reverse()
         else:
             item.clear()
+
+
+def order_of(lengths):
+    """The order of a dict from points to lengths."""
+    return tuple(
+        tuple(sorted(point for point in lengths if lengths[point] == length))
+        for length in sorted(set(lengths.values()))
+    )
+
+
+class Shadow:
+    """Goes beside a Machine; ahead of each step tell() is asked, behind it done()."""
+
+    def __init__(self, program, machine):
+        self.program, self.machine = program, machine
+        self.growing = machine.run()[0]
+        self.told = {}
+        self.known = {array for array, _ in machine.names().values()}
+        self.seen = set(self.known)
+        self.begins = [{"truth": False, "store": 0, "passed": {}, "steps": len(machine)}]
+        self.begins[0]["entry"] = ((), False)
+
+    def ask(self, query, *arguments):
+        """What a query of the program returns; it is asked once."""
+        key = (query.__name__, *arguments)
+        if key not in self.told:
+            self.told[key] = query(self.program, *arguments)
+        return self.told[key]
+
+    def outside(self, waiting):
+        """The windows that are watched in so many of the calls that wait."""
+        found = []
+        for begun, (place, names) in list(zip(self.begins, self.machine.calls()))[:waiting]:
+            v = self.ask(statement_at, place)[1]
+            later = self.ask(watched, self.ask(after, place), begun["truth"])
+            found += [names[name] for name in later if name != v]
+        return found
+
+    def row(self):
+        """The row in which the last call stands."""
+        begun = self.begins[-1]
+        place = self.machine.here()
+        points = {}
+        for name, (array, length) in self.machine.names().items():
+            if name in self.ask(alive, place):
+                points.setdefault(array, {})[name] = length
+        for point, (array, length) in begun["passed"].items():
+            points.setdefault(array, {})[point] = length
+        for array, told in points.items():
+            told.update(self.more(array, begun, "+0" in told or "+1" in told))
+        shape = tuple(sorted(order_of(told) for told in points.values()))
+        return (place[0], begun["entry"], place[1], shape)
+
+    def more(self, array, begun, passed):
+        """The points of the room, and of what is watched outside, on an array."""
+        told = {}
+        if array in self.known:
+            told["="] = self.machine.room_of(array)
+        store = self.machine.store()
+        newer = [length for other, length in store[begun["store"]:] if other == array]
+        elder = [length for other, length in self.outside(len(self.begins) - 1) + store[:begun["store"]] if other == array]
+        if newer:
+            told["!"] = max(newer)
+        if elder and passed:
+            told["^"] = max(elder)
+        return told
+
+    def victim(self, data):
+        """Of what the next step spoils with these data the first: the least name, else "!", else "^"; or None."""
+        place, names = self.machine.here(), self.machine.names()
+        statement = self.ask(statement_at, place)
+        if statement is None or statement[0] not in ("put", "set"):
+            return None
+        array, length = names[statement[-1]]
+        cell = length if statement[0] == "put" else data[0]
+        if statement[0] == "put" and length + data[0] > self.machine.room_of(array):
+            return None
+        begun = self.begins[-1]
+        later = self.ask(watched, self.ask(after, place), begun["truth"])
+        mine = [name for name in later if name != statement[1] and self.sees(names[name], array, cell)]
+        store = self.machine.store()
+        if mine:
+            return mine[0]
+        if any(self.sees(window, array, cell) for window in store[begun["store"]:]):
+            return "!"
+        elder = store[:begun["store"]] + self.outside(len(self.begins) - 1)
+        return "^" if any(self.sees(window, array, cell) for window in elder) else None
+
+    def sees(self, window, array, cell):
+        return window[0] == array and cell < window[1]
+
+    def step(self, data):
+        """Does a step with the Machine."""
+        statement = self.ask(statement_at, self.machine.here())
+        calls = len(self.machine.calls())
+        truth = self.begins[-1]["truth"]
+        place, names = self.machine.here(), self.machine.names()
+        self.machine.step(data)
+        for array, _ in self.machine.names().values():
+            if array not in self.seen:
+                self.seen.add(array)
+                if self.growing == "exact" or statement[0] not in ("put", "copyput"):
+                    self.known.add(array)
+        if len(self.machine.calls()) < calls:
+            self.begins.pop()
+        if len(self.machine.calls()) > calls:
+            told = statement[1] in self.ask(watched, self.ask(after, place), truth)
+            passed = {point: names[name] for point, name in zip(("+0", "+1"), statement[3])}
+            self.begins.append({
+                "truth": told, "store": len(self.machine.store()), "passed": passed, "steps": len(self.machine)})
+            self.begins[-1]["entry"] = (self.entry_shape(passed), told)
+
+    def entry_shape(self, passed):
+        points = {}
+        for point, (array, length) in passed.items():
+            points.setdefault(array, {})[point] = length
+        for array, told in points.items():
+            told.update(self.more(array, self.begins[-1], True))
+        return tuple(sorted(order_of(told) for told in points.values()))
+
+    def steps_of_call(self):
+        """The steps since the last call began."""
+        return len(self.machine) - self.begins[-1]["steps"]

@@ -1,11 +1,17 @@
 """The examples of the document, as far as the modules that there are go; they are one session."""
 import unittest
 
-from sparetails.machine import Machine
+from sparetails.needless import lean, needless
+from sparetails.orders import compare, laid_over, placed
 from sparetails.places import after, all_places, entered, ways
 from sparetails.programs import Program
 from sparetails.rules import Told, doubled
+from sparetails.runs import looks, played, wrong_look
+from sparetails.shapes import kept_points, shape_of
 from sparetails.statements import copying, made, read
+from sparetails.tables import Table
+from sparetails.watching import alive, passed, watched
+from sparetails.ways import steps_to_look, way_to_look
 from sparetails.windows import Window
 
 
@@ -38,15 +44,33 @@ class Examples(unittest.TestCase):
     def test_a_run(self):
         body = [("take", "t", "s"), ("put", "t", "t"), ("put", "s", "s"), ("look", "t")]
         both = Program({"main": ((), [("put", "s", "s")] + body, "s")})
-        machine = Machine(both, "spare", (1, 1))
-        for data in ((1, 3), (), (1,), (1,), ()):
-            machine.step(data)
-        self.assertEqual(machine.looks(), [(("main", (4,)), [0, 2, 4], [0, 2, 3])])
-        self.assertEqual(machine.names(), {"s": (2, 3), "t": (2, 3)})
-        machine = Machine(both, "exact", (1, 1))
-        for data in ((1,), (), (1,), (1,), ()):
-            machine.step(data)
-        self.assertEqual([seen == plain for _, seen, plain in machine.looks()], [True])
+        run = ("spare", (1, 1), ((1, 3), (), (1,), (1,), ()))
+        self.assertEqual(looks(both, run), [(("main", (4,)), [0, 2, 4], [0, 2, 3])])
+        self.assertEqual(
+            [wrong_look(both, run), played(both, run).names(), wrong_look(both, ("exact", (1, 1), ((1,), (), (1,), (1,), ())))],
+            [0, {"s": (2, 3), "t": (2, 3)}, None])
+
+    def test_ways_and_what_is_watched(self):
+        again = [("put", "q", "p"), ("take", "r", "q"), ("call", "r", "back", ("q",))]
+        back = Program({"main": ((), [("call", "s", "back", ("s",))], "s"), "back": (("p",), [("keep", "p"), ("loop", again)], "p")})
+        self.assertEqual([alive(back, ("back", (1,))), watched(back, ("back", (1,)), False), passed(back, "back", False)],
+                         [["p"], ["p"], [0]])
+        way = [("back", (1,)), ("back", (1, 0, 0)), ("back", (1, 0, 1)), ("back", (1, 0, 2)), ("back", (0,))]
+        self.assertEqual([steps_to_look(back, ("main", (0,)), "s"), way_to_look(back, ("back", (1,)), "p")], [2, way])
+        self.assertEqual([needless(back), steps_to_look(lean(back), ("back", (1,)), "p")], [[("back", (1, 0, 1))], 4])
+
+    def test_orders_and_shapes(self):
+        self.assertEqual(placed((("a",), ("b",)), "c", 2), (("a",), ("c",), ("b",)))
+        self.assertEqual(laid_over((("a",), ("b",)), (("a",), ("c",))),
+                         [(("a",), ("b",), ("c",)), (("a",), ("b", "c")), (("a",), ("c",), ("b",))])
+        self.assertEqual(kept_points(shape_of([(("x",), ("=", "y")), (("z",),)]), ["x"]), ((("x",), ("=",)),))
+        self.assertEqual(compare((("a",), ("b",)), "a", "b"), -1)
+
+    def test_tables(self):
+        body = [("put", "s", "s"), ("take", "t", "s"), ("put", "t", "t"), ("put", "s", "s"), ("look", "t")]
+        grown = Program({"main": ([], body, "s")})
+        self.assertEqual([Table(grown, "exact").spoiling(), [row[2:] for row in Table(grown, "spare").spoiling()]],
+                         [[], [((3,), ((("s",), ("t",)),))]])
 
 
 if __name__ == "__main__":

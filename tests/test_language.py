@@ -19,6 +19,33 @@ INTERFACE = {
     "rules": {"exact": [], "doubled": [], "Told": ["__init__", "__call__", "asked", "left"]},
     "machine": {"Machine": ["__init__", "__eq__", "__len__", "step", "back", "here", "is_over", "wanted", "names",
                             "calls", "store", "looks", "room_of", "cells_of", "marks", "plain", "run", "copied"]},
+    "runs": ["played", "is_run", "looks", "wrong_look", "walk", "shared"],
+    "ways": ["steps_to_end", "steps_to_look", "steps_to_result", "way_to_look", "is_way_to_look"],
+    "watching": ["alive", "watched", "passed", "watched_rows", "are_watched_rows"],
+    "needless": ["needless", "left_out", "lean"],
+    "orders": ["is_order", "points_of", "level_of", "compare", "only", "lacking", "renamed", "placed", "laid_over"],
+    "shapes": ["shape_of", "is_shape", "array_of", "share", "stands", "kept_points"],
+    "steps": ["begin_row", "followers", "spoiled", "called", "all_entries", "behind"],
+    "tables": {"Table": ["__init__", "__len__", "__contains__", "rows", "rows_at", "entries", "ends", "spoiling", "cost",
+                         "entry_cost"], "is_closed": []},
+}
+# The arguments of the functions, and of the methods behind self; what stands behind a * is passed by keyword.
+ARGUMENTS = {
+    "runs": {"played": "program run", "is_run": "program thing", "looks": "program run", "wrong_look": "program run",
+             "walk": "program run", "shared": "program run"},
+    "ways": {"steps_to_end": "program place", "steps_to_look": "program place name", "steps_to_result": "program place name",
+             "way_to_look": "program place name", "is_way_to_look": "program place name thing"},
+    "watching": {"alive": "program place", "watched": "program place behind", "passed": "program function behind",
+                 "watched_rows": "program", "are_watched_rows": "program thing"},
+    "needless": {"needless": "program", "left_out": "program places", "lean": "program"},
+    "orders": {"is_order": "thing", "points_of": "order", "level_of": "order point", "compare": "order one other",
+               "only": "order points", "lacking": "order points", "renamed": "order names", "placed": "order point place",
+               "laid_over": "one other"},
+    "shapes": {"shape_of": "orders", "is_shape": "thing", "array_of": "shape point", "share": "shape one other",
+               "stands": "shape one other", "kept_points": "shape names"},
+    "steps": {"begin_row": "program function entry", "followers": "program growing row", "spoiled": "program growing row",
+              "called": "program row", "all_entries": "many", "behind": "program row end"},
+    "tables": {"Table": "program growing * most", "is_closed": "program growing thing"},
 }
 BUILTINS = """len range enumerate zip min max sum abs sorted reversed int str bool bytes list tuple dict set frozenset
     isinstance ord repr any all divmod Exception ValueError TypeError KeyError IndexError LookupError
@@ -33,9 +60,9 @@ BARRED = """register mro elements open input law version_info with_traceback add
 DOUBLE = """__init__ __eq__ __len__ __call__ __iter__ __iadd__ __contains__ __getitem__ __setitem__""".split()
 PURE = ["__eq__", "__len__", "__contains__", "__getitem__", "__iter__"]
 BARRED_NODES = (
-    ast.Global, ast.Nonlocal, ast.AsyncFunctionDef, ast.Await, ast.Lambda, ast.Try, ast.With, ast.Match, ast.Set,
+    ast.Global, ast.Nonlocal, ast.AsyncFunctionDef, ast.Await, ast.Lambda, ast.With, ast.Match, ast.Set,
     ast.SetComp, ast.GeneratorExp, ast.JoinedStr, ast.Delete, ast.NamedExpr, ast.Div, ast.MatMult, ast.Assert,
-    ast.Yield, ast.YieldFrom, ast.AnnAssign, ast.Import,
+    ast.YieldFrom, ast.AnnAssign, ast.Import,
 )
 
 
@@ -93,6 +120,9 @@ class Files(unittest.TestCase):
         known = {}
         for name, node in self.nodes(ast.ImportFrom):
             package, _, file = node.module.partition(".")
+            if package == "heapq":
+                self.assertLessEqual({alias.name for alias in node.names}, {"heappop", "heappush"})
+                continue
             self.assertEqual((package, node.level), ("sparetails", 0))
             for alias in node.names:
                 self.assertIsNone(alias.asname)
@@ -137,6 +167,63 @@ class Files(unittest.TestCase):
             for operator, side in zip(node.ops, node.comparators):
                 if isinstance(operator, (ast.Is, ast.IsNot)):
                     self.assertIsInstance(side, ast.Constant)
+
+    def test_own_errors_alone_are_caught(self):
+        errors = set(self.defined["errors"])
+        for name, node in self.nodes(ast.ExceptHandler):
+            told = node.type.elts if isinstance(node.type, ast.Tuple) else [node.type]
+            self.assertLessEqual({one.id for one in told}, errors, name)
+            self.assertIsNone(node.name)
+        for name, node in self.nodes(ast.Try):
+            self.assertFalse(node.finalbody + node.orelse, name)
+            for part in [inner for line in node.body for inner in ast.walk(line)]:
+                self.assertNotIsInstance(part, (ast.Yield, ast.Compare, ast.Subscript, ast.comprehension), name)
+
+    def test_generators(self):
+        yielding = {}
+        for name, node in self.nodes(ast.FunctionDef):
+            if any(isinstance(part, ast.Yield) for part in ast.walk(node)):
+                yielding[node.name] = name
+        self.assertEqual(yielding, {"walk": "runs"})
+        for name, node in self.nodes(ast.FunctionDef):
+            self.assertTrue(node.name not in yielding or yielding[node.name] == name)
+        for name, node in self.nodes(ast.Yield):
+            alone = [part.value for part in ast.walk(self.trees[name]) if isinstance(part, ast.Expr)]
+            self.assertIn(node, alone)
+        for name, node in self.nodes(ast.Name):
+            self.assertNotIn(node.id, yielding)
+
+    def test_plain_values_at_module_level(self):
+        for name, tree in self.trees.items():
+            for node in tree.body:
+                if isinstance(node, ast.Assign):
+                    defined = {one.name for one in tree.body if isinstance(one, ast.FunctionDef)}
+                    for part in ast.walk(node.value):
+                        self.assertNotIsInstance(part, (ast.Call, ast.Starred, ast.BinOp, ast.comprehension), name)
+                        self.assertTrue(not isinstance(part, ast.Name) or part.id in defined, name)
+
+    def test_tables_at_module_level_are_only_read(self):
+        tables = {}
+        for name, tree in self.trees.items():
+            for node in tree.body:
+                if isinstance(node, ast.Assign) and isinstance(node.value, (ast.List, ast.Dict)):
+                    tables[node.targets[0].id] = name
+        for name, tree in self.trees.items():
+            allowed = set()
+            for node in ast.walk(tree):
+                if isinstance(node, ast.Subscript) and isinstance(node.ctx, ast.Load):
+                    allowed.add(id(node.value))
+                if isinstance(node, ast.Compare):
+                    allowed |= {id(one) for one in node.comparators}
+                if isinstance(node, (ast.For, ast.comprehension)):
+                    allowed.add(id(node.iter))
+                if isinstance(node, ast.Call) and isinstance(node.func, ast.Attribute) and node.func.attr in ("get", "items"):
+                    allowed.add(id(node.func.value))
+                if isinstance(node, ast.Call) and isinstance(node.func, ast.Name) and node.func.id in ("dict", "list", "len"):
+                    allowed |= {id(one) for one in node.args}
+            for node in ast.walk(tree):
+                if isinstance(node, ast.Name) and isinstance(node.ctx, ast.Load) and node.id in tables:
+                    self.assertIn(id(node), allowed, (name, node.id, node.lineno))
 
     def test_methods_and_attributes(self):
         methods, stored = set(), set()
@@ -195,6 +282,19 @@ class Files(unittest.TestCase):
                     self.assertNotIn(ast.unparse(part.func.value), gone_over, (name, node.lineno))
                 if isinstance(part, ast.Subscript) and isinstance(part.ctx, ast.Store):
                     self.assertNotIn(ast.unparse(part.value), gone_over, (name, node.lineno))
+
+    def test_the_arguments(self):
+        for name, listed in ARGUMENTS.items():
+            defined = {node.name: node for node in self.trees[name].body
+                       if isinstance(node, (ast.FunctionDef, ast.ClassDef))}
+            for told, wanted in listed.items():
+                node = defined[told]
+                if isinstance(node, ast.ClassDef):
+                    node = [part for part in node.body if isinstance(part, ast.FunctionDef) and part.name == "__init__"][0]
+                found = [one.arg for one in node.args.args if one.arg != "self"]
+                found += ["*"] * bool(node.args.kwonlyargs) + [one.arg for one in node.args.kwonlyargs]
+                self.assertEqual(found, wanted.split(), (name, told))
+                self.assertFalse(node.args.defaults or node.args.vararg or node.args.kwarg or node.args.posonlyargs)
 
     def test_the_interface(self):
         for name, listed in INTERFACE.items():

@@ -2,11 +2,18 @@
 import random
 import unittest
 
+from sparetails.errors import TooMany
 from sparetails.machine import Machine
+from sparetails.needless import lean, left_out, needless
 from sparetails.places import all_places, statement_at, ways
 from sparetails.programs import Program
+from sparetails.runs import looks, shared, walk, wrong_look
 from sparetails.statements import bodies, copying, made, named, read, sharing
-from tests.drawing import drawn_machine, drawn_program
+from sparetails.steps import behind, begin_row, called, followers, spoiled
+from sparetails.tables import Table, is_closed
+from sparetails.watching import alive, are_watched_rows, passed, watched, watched_rows
+from sparetails.ways import is_way_to_look, steps_to_end, steps_to_look, steps_to_result, way_to_look
+from tests.drawing import dense_program, drawn_machine, drawn_program
 
 NEWER = {"p": "aa", "q": "ab", "r": "kkkkkkkk", "s": "zz"}
 # "main" keeps its name, so the others have to stay on their sides of it.
@@ -37,6 +44,19 @@ def renamed_place(place):
 
 def renamed_windows(windows):
     return {NEWER[name]: window for name, window in windows.items()}
+
+
+def renamed_names(names):
+    return [NEWER[name] for name in names]
+
+
+def renamed_shape(shape):
+    """The shape with the newer names; these stand in the same order, but perhaps otherwise beside other points."""
+    return tuple(sorted(tuple(tuple(sorted(NEWER.get(point, point) for point in level)) for level in order) for order in shape))
+
+
+def renamed_row(row):
+    return (CALLED[row[0]], row[1], row[2], renamed_shape(row[3]))
 
 
 class Names(unittest.TestCase):
@@ -90,6 +110,80 @@ class Names(unittest.TestCase):
                                              for place, held in machine.calls()])
             self.assertEqual(other.looks(), [(renamed_place(place), *told) for place, *told in machine.looks()])
             self.assertEqual((other.store(), other.wanted()), (machine.store(), machine.wanted()))
+
+    def test_runs(self):
+        source = random.Random(132)
+        for program in self.drawn[:100]:
+            run = drawn_machine(source, program, "exact", 40).run()
+            other = renamed_program(program)
+            self.assertEqual(list(walk(other, run)), [renamed_place(place) for place in walk(program, run)])
+            self.assertEqual(looks(other, run), [(renamed_place(place), *told) for place, *told in looks(program, run)])
+            self.assertEqual(wrong_look(other, run), wrong_look(program, run))
+            self.assertEqual(shared(other, run), [renamed_names(names) for names in shared(program, run)])
+
+    def test_ways(self):
+        for program in self.drawn[:60]:
+            other = renamed_program(program)
+            for place in all_places(program):
+                there = renamed_place(place)
+                self.assertEqual(steps_to_end(other, there), steps_to_end(program, place))
+                for name in program.names(place[0]):
+                    for asked in (steps_to_look, steps_to_result):
+                        self.assertEqual(asked(other, there, NEWER[name]), asked(program, place, name))
+                    way = way_to_look(program, place, name)
+                    if way is not None:
+                        way = [renamed_place(one) for one in way]
+                        self.assertIs(is_way_to_look(other, there, NEWER[name], way), True)
+
+    def test_watching(self):
+        for program in self.drawn[:100]:
+            other = renamed_program(program)
+            for place in all_places(program):
+                self.assertEqual(alive(other, renamed_place(place)), renamed_names(alive(program, place)))
+                for told in (False, True):
+                    self.assertEqual(watched(other, renamed_place(place), told), renamed_names(watched(program, place, told)))
+            for function in program.functions():
+                self.assertEqual(passed(other, CALLED[function], True), passed(program, function, True))
+            rows = [(CALLED[f], b, a, tuple(renamed_names(names))) for f, b, a, names in watched_rows(program)]
+            self.assertEqual(watched_rows(other), rows)
+            self.assertIs(are_watched_rows(other, rows), True)
+
+    def test_needless(self):
+        for program in self.drawn[:100]:
+            other = renamed_program(program)
+            places = needless(program)
+            self.assertEqual(needless(other), [renamed_place(place) for place in places])
+            self.assertEqual(left_out(other, needless(other)), renamed_program(left_out(program, places)))
+            self.assertEqual(lean(other), renamed_program(lean(program)))
+
+    def test_tables(self):
+        source = random.Random(133)
+        rows_seen = 0
+        while rows_seen < 600:
+            program = dense_program(source, ("p", "r", "s"))
+            other = renamed_program(program)
+            try:
+                table = Table(program, "spare", most=150)
+            except TooMany:
+                continue
+            newer = Table(other, "spare", most=150)
+            self.assertEqual(newer.rows(), sorted(map(renamed_row, table.rows())))
+            self.assertEqual(newer.spoiling(), sorted(map(renamed_row, table.spoiling())))
+            self.assertEqual(newer.entries(), [(CALLED[function], entry) for function, entry in table.entries()])
+            self.assertIs(is_closed(other, "spare", newer.rows()), is_closed(program, "spare", table.rows()))
+            for row in table.rows():
+                there = renamed_row(row)
+                self.assertEqual(newer.cost(there), table.cost(row))
+                self.assertEqual(followers(other, "spare", there), sorted(map(renamed_row, followers(program, "spare", row))))
+                self.assertEqual(spoiled(other, "spare", there), sorted(NEWER.get(one, one) for one in spoiled(program, "spare", row)))
+                statement = statement_at(program, (row[0], row[2]))
+                if statement is not None and statement[0] == "call":
+                    function, entry = called(program, row)
+                    self.assertEqual(called(other, there), (CALLED[function], entry))
+                    self.assertEqual(begin_row(other, CALLED[function], entry), renamed_row(begin_row(program, function, entry)))
+                    for end in table.ends(function, entry):
+                        self.assertEqual(behind(other, there, renamed_row(end)), sorted(map(renamed_row, behind(program, row, end))))
+            rows_seen += len(table)
 
 
 if __name__ == "__main__":
