@@ -57,7 +57,7 @@ def _settled(program, keys, ahead):
     """The dict from the keys to the fewest names with which each has what stands ahead by the others."""
     names = {key: [] for key in keys}
     # Names come from behind, so the last places first.
-    order = list(reversed(keys))
+    order = list(reversed(list(keys)))
     going = True
     while going:
         going = False

@@ -115,5 +115,5 @@ class Costs:
                 told.append((one[1], one[2]))
             else:
                 at = self._costs_of(one).index(self._fewest[one])
-                waiting.extend(list(reversed(self._choices[one][at])))
+                waiting.extend(list(reversed(list(self._choices[one][at]))))
         return told

@@ -168,6 +168,20 @@ class Files(unittest.TestCase):
                 if isinstance(operator, (ast.Is, ast.IsNot)):
                     self.assertIsInstance(side, ast.Constant)
 
+    def test_calls_of_builtins(self):
+        for name, node in self.nodes(ast.Call):
+            if isinstance(node.func, ast.Name) and node.func.id == "reversed":
+                self.assertIn(ast.unparse(node.args[0]).split("(")[0], ("list", "tuple", "sorted", "range"), (name, node.lineno))
+            if isinstance(node.func, ast.Name) and node.func.id == "set":
+                around = [other for other in ast.walk(self.trees[name])
+                          if isinstance(other, ast.Call) and node in other.args and isinstance(other.func, ast.Name)]
+                self.assertEqual([other.func.id in ("sorted", "len") for other in around], [True], (name, node.lineno))
+            if isinstance(node.func, ast.Name) and node.func.id in BUILTINS:
+                told = {word.arg for word in node.keywords}
+                self.assertLessEqual(told, {"key", "reverse"} if node.func.id == "sorted" else {"key", "default"}, name)
+        for name, node in self.nodes(ast.AugAssign):
+            self.fail(f"{name}, line {node.lineno}")
+
     def test_own_errors_alone_are_caught(self):
         errors = set(self.defined["errors"])
         for name, node in self.nodes(ast.ExceptHandler):
