@@ -1,15 +1,20 @@
 """What the steps of a program have to know of it: statements, and what is alive or watched behind them."""
 from sparetails.flows import alive_names, watched_names
-from sparetails.shapes import kept_points
+from sparetails.shapes import kept_points, shape_of
 
 
 class Facts:
-    """What is found once for a program, and asked for many of its rows."""
+    """What is found once for a program, and asked for many of its rows.
+
+    But for shapes the first three of what a row tells are enough, where a call stands.
+    """
 
     def __init__(self, program):
-        self.program = program
+        self.subject = program
         self._alive = alive_names(program)
         self._watched = watched_names(program)
+        # Rows have few orders, and these again and again.
+        self._kept = {}
 
     def alive_at(self, place):
         """The ascending list of the names alive at a place."""
@@ -17,7 +22,7 @@ class Facts:
 
     def spot_of(self, row):
         """The Spot at which the call of a row stands."""
-        return self.program.spot_at((row[0], row[2]))
+        return self.subject.spot_at((row[0], row[2]))
 
     def statement_of(self, row):
         """The statement ahead of which the call of a row stands, or None at an end."""
@@ -44,6 +49,17 @@ class Facts:
         """The ascending list of the rows of the same call at some addresses, with what is kept there of some shapes."""
         function, entry = row[:2]
         return sorted(set([
-            (function, entry, address, kept_points(shape, self._alive[(function, address)]))
+            (function, entry, address, self._shape_at((function, address), shape))
             for address in addresses for shape in shapes
         ]))
+
+    def _shape_at(self, place, shape):
+        """What is kept of a shape at a place."""
+        return shape_of([one for order in shape for one in self._order_at(place, order)])
+
+    def _order_at(self, place, order):
+        """What is kept of an order at a place: a shape of one order or of none."""
+        key = (place, order)
+        if key not in self._kept:
+            self._kept[key] = kept_points((order,), self._alive[place])
+        return self._kept[key]

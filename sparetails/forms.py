@@ -37,12 +37,12 @@ def _is_entry(program, function, entry):
 
 def is_row(facts, thing):
     """Whether thing, any value, has the form of a row of a program; a call need not come to stand there."""
-    if not is_rowlike(thing) or not facts.program.has_place((thing[0], thing[2])):
+    if not is_rowlike(thing) or not facts.subject.has_place((thing[0], thing[2])):
         return False
     function, entry, address, shape = thing
     alive = facts.alive_at((function, address))
     points = [point for order in shape for point in points_of(order) if point not in (*PASSED, *COMMON)]
-    if not _is_entry(facts.program, function, entry) or sorted(points) != alive:
+    if not _is_entry(facts.subject, function, entry) or sorted(points) != alive:
         return False
     if not all([only(order, [*alive, *PASSED]) != () and _is_highest(order, "=") for order in shape]):
         return False

@@ -1,6 +1,6 @@
 """How a body is laid out: what stands at each address, and where it leads."""
 from sparetails.errors import BadStatement
-from sparetails.statements import emptied, inner_bodies, is_head
+from sparetails.statements import emptied, head_of, inner_bodies, is_head
 
 
 class Spot:
@@ -81,11 +81,7 @@ class Layout:
 
     def outline(self):
         """What is equal just for equal bodies, without any nesting."""
-        told = []
-        for statement in self.statements():
-            inner = inner_bodies(statement)
-            told.append((statement[0], *[len(body) for body in inner]) if inner else statement)
-        return told
+        return [head_of(statement) for statement in self.statements()]
 
     def can_end(self, able):
         """Whether a way leads to the end on which only able functions are called."""

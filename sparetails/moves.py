@@ -24,6 +24,12 @@ def placed_by(shape, name, other, place):
     return shape_of([renamed(lacking(order, [name]), {NEWER: name}) for order in orders])
 
 
+def moved_shape(growing, shape, v):
+    """The shape behind a put of v that moves, or a copyput."""
+    # With spare room a new array may have any room.
+    return alone(shape, v, ["="] if growing == "exact" else [])
+
+
 def level_place(shape, point):
     """The place of the level of a point in its order."""
     return 2 * level_of(_order_of(shape, point), point) + 1
@@ -69,6 +75,24 @@ def points_spoiled(facts, row):
     return []
 
 
+def _first_of(points):
+    """Of spoiled points the least name, or else "!", or else "^"."""
+    names = [point for point in points if point not in OUTSIDE]
+    return names[0] if names else points[0]
+
+
+def first_victims(facts, row):
+    """The list of what steps of a row spoil, of each step the first victim; some may stand twice."""
+    if not points_spoiled(facts, row):
+        return []
+    word, v = facts.statement_of(row)[:2]
+    if word == "put":
+        return [_first_of(points_spoiled(facts, row))]
+    # A set may write into a cell that is seen from any level on, up to the one of v.
+    found = [_victims(facts, row, v, lowest) for lowest in range(_level(row[3], v) + 1)]
+    return [_first_of(points) for points in found if points]
+
+
 def _stayed(facts, row, v, w):
     """The shapes behind a put that stays and spoils nothing."""
     shape = row[3]
@@ -88,8 +112,7 @@ def _made(facts, growing, row):
         return [placed_by(shape, v, w, level_place(shape, w))]
     if word == "cut":
         return [placed_by(shape, v, w, place) for place in range(level_place(shape, w) + 1)]
-    # With spare room a new array may have any room.
-    moved = alone(shape, v, ["="] if growing == "exact" else [])
+    moved = moved_shape(growing, shape, v)
     return [moved] if word == "copyput" else [moved, *_stayed(facts, row, v, w)]
 
 

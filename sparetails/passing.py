@@ -11,7 +11,7 @@ STORED = "*!"
 
 def first_row(facts, function, entry):
     """The row with which a call with an entry begins."""
-    program = facts.program
+    program = facts.subject
     parameters = [] if function == "main" else program.parameters(function)
     shape = entry[0]
     for point, name in zip(PASSED, parameters):
@@ -22,7 +22,7 @@ def first_row(facts, function, entry):
     return (function, entry, (0,), kept_points(shape, facts.alive_at((function, (0,)))))
 
 
-def _passed_in(order, names):
+def passed_in(order, names):
     """The points "+0", "+1" of those passed names that stand in an order."""
     return [point for point, name in zip(PASSED, names) if level_of(order, name) is not None]
 
@@ -46,39 +46,44 @@ def call_of(facts, row):
     inside = {tie: point for point, tie in TIES.items()}
     orders = [
         renamed(only(_tied(order, names, later), ["=", *TYING]), inside)
-        for order in row[3] if _passed_in(order, names)
+        for order in row[3] if passed_in(order, names)
     ]
     return (function, (shape_of(orders), facts.is_made_watched(row)))
 
 
-def _come_back(order):
+def come_back(order):
     """A laid over order with the higher one of both marks of the store, and without what tied it."""
     lower = "!" if compare(order, "!", STORED) == -1 else STORED
     both = compare(order, "!", STORED) is not None
     return renamed(lacking(order, [*TYING, lower] if both else TYING), {STORED: "!"})
 
 
-def _laid_orders(facts, row, order, inner):
-    """The orders that an array to which windows were passed can have behind a call; inner has its order in there."""
+def laid_orders(facts, row, end, order):
+    """The orders, still with what ties them, of an array with passed windows behind a call and an end row of it."""
     _, v, called, names = facts.statement_of(row)
+    inner = end[3][array_of(end[3], passed_in(order, names)[0])]
     alive = facts.alive_at((row[0], facts.spot_of(row).after))
     # The elder window of v is gone; what is not kept would only make more orders that become the same ones.
     kept = [name for name in alive if name != v]
     outer = only(_tied(order, names, facts.watched_behind(row)), [*kept, *PASSED, *COMMON, *TYING])
-    ended = renamed(inner, {**dict(TIES), "!": STORED, facts.program.result(called): v})
-    told = laid_over(outer, ended if v in alive else lacking(ended, [v]))
-    return sorted(set([_come_back(one) for one in told]))
+    ended = renamed(inner, {**dict(TIES), "!": STORED, facts.subject.result(called): v})
+    return laid_over(outer, ended if v in alive else lacking(ended, [v]))
+
+
+def fresh_orders(facts, row, end):
+    """The orders of arrays that came to be in a call, as they stand behind it, by an end row of it."""
+    _, v, called, _ = facts.statement_of(row)
+    return [renamed(order, {facts.subject.result(called): v}) for order in end[3] if not only(order, PASSED)]
 
 
 def rows_behind(facts, row, end):
     """The ascending list of the rows behind a call to which an end row of the called function leads."""
-    _, v, called, names = facts.statement_of(row)
-    result = facts.program.result(called)
-    ended = end[3]
-    shapes = [[renamed(order, {result: v}) for order in ended if not only(order, PASSED)]]
+    names = facts.statement_of(row)[3]
+    shapes = [fresh_orders(facts, row, end)]
     for order in row[3]:
-        passed = _passed_in(order, names)
-        told = _laid_orders(facts, row, order, ended[array_of(ended, passed[0])]) if passed else [order]
+        told = [order]
+        if passed_in(order, names):
+            told = sorted(set([come_back(one) for one in laid_orders(facts, row, end, order)]))
         shapes = [[*shape, one] for shape in shapes for one in told]
     return facts.rows_at(row, [facts.spot_of(row).after], [shape_of(shape) for shape in shapes])
 

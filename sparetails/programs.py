@@ -13,7 +13,8 @@ def _are_parameters(thing):
     return all([is_name(name) for name in thing]) and len(set(thing)) == len(thing)
 
 
-def _is_function(thing):
+def is_function(thing):
+    """Whether thing has the form of a function: (parameters, body, result), with any items in its body."""
     if not isinstance(thing, tuple) or len(thing) != 3:
         return False
     parameters, body, result = thing
@@ -23,7 +24,7 @@ def _is_function(thing):
 def _are_functions(thing):
     if not isinstance(thing, dict) or "main" not in thing:
         return False
-    return all([is_name(name) and _is_function(told) for name, told in thing.items()])
+    return all([is_name(name) and is_function(told) for name, told in thing.items()])
 
 
 def _names_in(parameters, layout, result):

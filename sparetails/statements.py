@@ -110,6 +110,12 @@ def sharing(statement):
     return None if word is None else (word, statement[1], statement[2])
 
 
+def head_of(statement):
+    """What is equal for statements that differ in what stands in their bodies alone; how much this is counts."""
+    inner = inner_bodies(statement)
+    return (statement[0], *[len(body) for body in inner]) if inner else statement
+
+
 def emptied(statement):
     """The statement with new empty lists in the place of its bodies."""
     if statement[0] == "either":

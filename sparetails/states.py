@@ -83,7 +83,7 @@ class State:
     """The calls, the arrays, the store and the looks of a run."""
 
     def __init__(self, program, growing):
-        self.program = program
+        self._program = program
         self.growing = growing
         self.memory = Memory()
         self.stack = []
@@ -92,7 +92,7 @@ class State:
 
     def copied(self):
         """A State that holds the same and goes on by itself."""
-        told = State(self.program, self.growing)
+        told = State(self._program, self.growing)
         told.memory = self.memory.copied()
         told.stack = list(self.stack)
         told.kept = list(self.kept)
@@ -115,7 +115,7 @@ class State:
 
     def begin(self, function, passed, numbers):
         """Begins a call: passed has what its parameters hold, numbers the marks of the other names."""
-        names = self.program.names(function)
+        names = self._program.names(function)
         holds = {name: passed.get(name) for name in names}
         others = [name for name in names if name not in passed]
         for name, many in zip(others, numbers):
@@ -124,7 +124,7 @@ class State:
 
     def spot(self):
         """The Spot at which the last call stands."""
-        return self.program.spot_at(self.stack[-1].where())
+        return self._program.spot_at(self.stack[-1].where())
 
     def is_over(self):
         """Whether main stands at its end."""
@@ -150,7 +150,7 @@ class State:
             return [(0, 1)]
         if word == "call":
             called = statement[2]
-            return [(1, MOST_MARKS)] * (len(self.program.names(called)) - len(self.program.parameters(called)))
+            return [(1, MOST_MARKS)] * (len(self._program.names(called)) - len(self._program.parameters(called)))
         return []
 
     def least_room(self, many):
@@ -203,12 +203,12 @@ class State:
     def _begin_call(self, statement, data):
         holds = self.stack[-1].holds
         passed = {}
-        for parameter, name in zip(self.program.parameters(statement[2]), statement[3]):
+        for parameter, name in zip(self._program.parameters(statement[2]), statement[3]):
             passed[parameter] = holds[name]
         self.begin(statement[2], passed, data)
 
     def _end_call(self):
         ended = self.stack.pop()
-        held = ended.holds[self.program.result(ended.function)]
+        held = ended.holds[self._program.result(ended.function)]
         spot = self.spot()
         self.stack[-1] = self.stack[-1].given(spot.statement[1], held).gone_to(spot.after)

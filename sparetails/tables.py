@@ -1,93 +1,28 @@
 """Closed tables of the rows in which the calls of a program can stand."""
-from heapq import heappop, heappush
-
-from sparetails.errors import TooMany
+from sparetails.closing import MAIN_ENTRY, closure_of
 from sparetails.facts import Facts
 from sparetails.forms import is_row, is_rowlike
 from sparetails.moves import points_spoiled, rows_after
 from sparetails.passing import call_of, first_row, rows_behind
-
-MAIN_ENTRY = ((), False)
 
 
 class Table:
     """The least closed table of a program, with the fewest steps to each row."""
 
     def __init__(self, program, growing, *, most=1000):
-        self._facts = Facts(program)
-        self._growing = growing
-        self._most = most
-        # The fewest steps from the begin of its call to each row, in the order in which they were found.
-        self._costs = {}
-        # For each tuple (function, entry) the rows ahead of such a call, and the end rows of it.
-        self._callers = {}
-        self._ends = {}
-        self._waiting = []
-        self._fill()
-        self._begins = self._entry_costs()
-
-    def _fill(self):
-        self._begin(("main", MAIN_ENTRY))
-        while self._waiting:
-            cost, row = heappop(self._waiting)
-            if row not in self._costs:
-                if len(self._costs) == self._most:
-                    raise TooMany(self._most)
-                self._costs[row] = cost
-                self._go_on(row, cost)
-
-    def _begin(self, call):
-        """Lets a call with an entry begin, if none has."""
-        if call not in self._callers:
-            self._callers[call] = []
-            self._ends[call] = []
-            heappush(self._waiting, (0, first_row(self._facts, call[0], call[1])))
-
-    def _go_on(self, row, cost):
-        """Lets all rows wait that come of a row, and of what was found ahead of it."""
-        if self._facts.is_at_call(row):
-            call = call_of(self._facts, row)
-            self._begin(call)
-            self._callers[call].append(row)
-            for end in self._ends[call]:
-                self._come_back(row, end)
-        elif self._facts.statement_of(row) is None:
-            call = row[:2]
-            self._ends[call].append(row)
-            for caller in self._callers[call]:
-                self._come_back(caller, row)
-        for follower in rows_after(self._facts, self._growing, row):
-            heappush(self._waiting, (cost + 1, follower))
-
-    def _come_back(self, row, end):
-        # A step begins the call, and another one ends it.
-        cost = self._costs[row] + self._costs[end] + 2
-        for told in rows_behind(self._facts, row, end):
-            heappush(self._waiting, (cost, told))
-
-    def _entry_costs(self):
-        """The dict from the calls that begin to the fewest steps of a run ahead of their first one."""
-        fewest = {("main", MAIN_ENTRY): 0}
-        going = True
-        while going:
-            going = False
-            for call, rows in self._callers.items():
-                costs = [fewest[row[:2]] + self._costs[row] + 1 for row in rows if row[:2] in fewest]
-                if costs and (call not in fewest or min(costs) < fewest[call]):
-                    fewest[call] = min(costs)
-                    going = True
-        return fewest
+        self._closure = closure_of(program, growing, most)
+        self._begins = self._closure.begins()
 
     def __len__(self):
-        return len(self._costs)
+        return len(self._closure.costs)
 
     def __contains__(self, thing):
         # Truths are equal to integers, so the form comes first.
-        return is_rowlike(thing) and thing in self._costs
+        return is_rowlike(thing) and thing in self._closure.costs
 
     def rows(self):
         """The ascending list of the rows."""
-        return sorted(list(self._costs))
+        return sorted(list(self._closure.costs))
 
     def rows_at(self, function, address):
         """The ascending list of the rows at a place."""
@@ -95,23 +30,23 @@ class Table:
 
     def entries(self):
         """The ascending list of the tuples (function, entry) of the calls."""
-        return sorted(list(self._callers))
+        return sorted(list(self._closure.callers))
 
     def ends(self, function, entry):
         """The ascending list of the end rows of a function with an entry."""
-        return sorted(self._ends.get((function, entry), []))
+        return sorted(self._closure.ended.get((function, entry), []))
 
     def spoiling(self):
         """The ascending list of the rows that spoil."""
-        return [row for row in self.rows() if points_spoiled(self._facts, row)]
+        return self._closure.spoiling()
 
     def cost(self, row):
         """The fewest steps with which a call comes from its begin to a row."""
-        return self._costs[row]
+        return self._closure.costs[row]
 
     def entry_cost(self, function, entry):
         """The fewest steps of a run ahead of the first step of such a call."""
-        return self._begins[(function, entry)]
+        return self._begins[(function, entry)][0]
 
 
 def _is_followed(facts, growing, rows, row):

@@ -149,7 +149,8 @@ class Files(unittest.TestCase):
             stored = {n.id for n in ast.walk(tree) if isinstance(n, ast.Name) and isinstance(n.ctx, ast.Store)}
             local |= stored - set(self.defined[name])
             self.assertFalse((local | stored) & (imported | classes | set(dir(builtins))), name)
-            known = local | imported | set(self.defined[name]) | set(BUILTINS)
+            nested = {node.name for node in ast.walk(tree) if isinstance(node, ast.FunctionDef)}
+            known = local | nested | imported | set(self.defined[name]) | set(BUILTINS)
             for node in ast.walk(tree):
                 if isinstance(node, ast.Name):
                     self.assertIn(node.id, known, name)
@@ -189,7 +190,12 @@ class Files(unittest.TestCase):
             self.assertLessEqual({one.id for one in told}, errors, name)
             self.assertIsNone(node.name)
         for name, node in self.nodes(ast.Try):
-            self.assertFalse(node.finalbody + node.orelse, name)
+            self.assertFalse(node.orelse, name)
+            if node.finalbody:
+                # What an error undoes is put back by one plain assignment.
+                self.assertEqual((name, [type(part) for part in node.finalbody]), ("book", [ast.If]))
+                self.assertEqual(ast.unparse(node.finalbody[0].test), "ended is None")
+                self.assertEqual([type(part) for part in node.finalbody[0].body], [ast.Assign])
             for part in [inner for line in node.body for inner in ast.walk(line)]:
                 self.assertNotIsInstance(part, (ast.Yield, ast.Compare, ast.Subscript, ast.comprehension), name)
 
