@@ -83,7 +83,7 @@ class Trace:
     def _shape(self, windows, begun):
         """The shape of some windows by names, and of what was passed to a call."""
         lengths = {}
-        for point, (array, length) in [*windows.items(), *begun.passed.items()]:
+        for point, (array, length) in [*list(windows.items()), *list(begun.passed.items())]:
             lengths.setdefault(array, {})[point] = length
         for array, length in begun.outside.items():
             lengths[array]["^"] = length

@@ -152,6 +152,11 @@ def drawn_machine(source, program, growing, steps):
     return machine
 
 
+def listed_run(run):
+    """The run with lists for its begins and its data; a run itself is a tuple."""
+    return (run[0], list(run[1]), [list(told) for told in run[2]])
+
+
 def orders_of(points):
     """All orders of some points."""
     if not points:
