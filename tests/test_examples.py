@@ -1,7 +1,13 @@
-"""The examples of the document, as far as the modules that there are go; they are one session."""
+"""The examples of the document: each stage by itself, and all together, as one session."""
+import builtins
+import doctest
+import pathlib
 import unittest
 
+from sparetails.book import Book
+from sparetails.desk import Desk
 from sparetails.needless import lean, needless
+from sparetails.notation import read_log, show_log, show_program
 from sparetails.orders import compare, laid_over, placed
 from sparetails.places import after, all_places, entered, ways
 from sparetails.programs import Program
@@ -71,6 +77,31 @@ class Examples(unittest.TestCase):
         grown = Program({"main": ([], body, "s")})
         self.assertEqual([Table(grown, "exact").spoiling(), [row[2:] for row in Table(grown, "spare").spoiling()]],
                          [[], [((3,), ((("s",), ("t",)),))]])
+
+    def test_books_and_texts(self):
+        book = Book(Program({"main": ([], [("put", "s", "s"), ("look", "s")], "s")}))
+        self.assertEqual(
+            [book.do(("in", "main", (1,), ("take", "t", "s"))), book.do(("copy", "main", (0,))), len(book), book.back()],
+            [[("main", (1,)), ("main", (2,)), ("main", (3,))], [("main", (0,))], 2, ("copy", "main", (0,))])
+        self.assertEqual(show_program(book.program()), "function main - s\n  put s s\n  take t s\n  look s")
+        self.assertEqual([show_log(book), read_log(book.past(0), show_log(book)) == book], ["in main 1\n  take t s", True])
+
+    def test_a_desk(self):
+        desk = Desk(Program({"main": ([], [("take", "t", "s"), ("put", "t", "t"), ("look", "s")], "s")}))
+        self.assertEqual(
+            [desk.execute("in main 0\n  put s s"), desk.execute("in main 3\n  put s s"), desk.execute("plain exact")],
+            ["main@0,main@1,main@2,main@3,main@4", "main@3,main@4,main@5", "yes"])
+        self.assertEqual(
+            [desk.execute("plain spare"), desk.execute("watched main 2 no"), desk.execute("look spare 1,1 : 1,3 - 1 1 -")],
+            ["yes", "s", "-"])
+
+    def test_all_together_in_their_order(self):
+        text = (pathlib.Path(__file__).resolve().parent / "examples.txt").read_text(encoding="utf-8")
+        session = doctest.DocTestParser().get_doctest(text, {}, "examples", "examples.txt", 0)
+        # A session leaves its last value among the builtins.
+        self.addCleanup(builtins.__dict__.pop, "_", None)
+        told = doctest.DocTestRunner(verbose=False).run(session)
+        self.assertEqual((told.failed, told.attempted), (0, 56))
 
 
 if __name__ == "__main__":

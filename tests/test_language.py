@@ -28,6 +28,16 @@ INTERFACE = {
     "steps": ["begin_row", "followers", "spoiled", "called", "all_entries", "behind"],
     "tables": {"Table": ["__init__", "__len__", "__contains__", "rows", "rows_at", "entries", "ends", "spoiling", "cost",
                          "entry_cost"], "is_closed": []},
+    "moments": ["row_of", "run_to"],
+    "spoilings": ["first_spoiling", "spoilings", "is_plain", "fewest_steps"],
+    "wrongruns": ["wrong_run", "is_wrong_run", "seen_wrong"],
+    "repairs": ["repaired", "open_places", "repairs", "cheapest", "repair_paper", "is_repair_paper", "idle"],
+    "growings": ["plain_growings", "by_spare_room"],
+    "standing": ["outcomes", "bar", "stands_for", "with_calls"],
+    "book": {"Book": ["__init__", "__eq__", "__len__", "do", "back", "again", "program", "log", "past", "tried", "copied", "block"]},
+    "notation": ["show_statement", "show_program", "show_run", "show_shape", "show_deed", "show_log", "read_statement",
+                 "read_program", "read_address", "read_run", "read_shape", "read_deed", "read_log"],
+    "desk": {"Desk": ["__init__", "execute"]},
 }
 # The arguments of the functions, and of the methods behind self; what stands behind a * is passed by keyword.
 ARGUMENTS = {
@@ -46,6 +56,21 @@ ARGUMENTS = {
     "steps": {"begin_row": "program function entry", "followers": "program growing row", "spoiled": "program growing row",
               "called": "program row", "all_entries": "many", "behind": "program row end"},
     "tables": {"Table": "program growing * most", "is_closed": "program growing thing"},
+    "moments": {"row_of": "program run", "run_to": "program growing row * most"},
+    "spoilings": {"first_spoiling": "program run", "spoilings": "program growing * most", "is_plain": "program growing * most",
+                  "fewest_steps": "program growing * most"},
+    "wrongruns": {"wrong_run": "program growing * most", "is_wrong_run": "program growing thing", "seen_wrong": "program run"},
+    "repairs": {"repaired": "program repair", "open_places": "program", "repairs": "program growing * most",
+                "cheapest": "program growing prices * most", "repair_paper": "program growing * most",
+                "is_repair_paper": "program growing goods bads * most", "idle": "program growing * most"},
+    "growings": {"plain_growings": "program * most", "by_spare_room": "program * most"},
+    "standing": {"outcomes": "program growing function entry * most", "bar": "program one other growing * most",
+                 "stands_for": "program one other growing * most", "with_calls": "program other one"},
+    "book": {"Book": "program"},
+    "notation": {"show_statement": "statement", "show_program": "program", "show_run": "run", "show_shape": "shape",
+                 "show_deed": "deed", "show_log": "book", "read_statement": "text", "read_program": "text", "read_address": "text",
+                 "read_run": "text", "read_shape": "text", "read_deed": "text", "read_log": "program text"},
+    "desk": {"Desk": "program"},
 }
 BUILTINS = """len range enumerate zip min max sum abs sorted reversed int str bool bytes list tuple dict set frozenset
     isinstance ord repr any all divmod Exception ValueError TypeError KeyError IndexError LookupError
@@ -309,6 +334,8 @@ class Files(unittest.TestCase):
                        if isinstance(node, (ast.FunctionDef, ast.ClassDef))}
             for told, wanted in listed.items():
                 node = defined[told]
+                for one in node.args.kw_defaults if isinstance(node, ast.FunctionDef) else []:
+                    self.assertEqual(ast.unparse(one), "1000", (name, told))
                 if isinstance(node, ast.ClassDef):
                     node = [part for part in node.body if isinstance(part, ast.FunctionDef) and part.name == "__init__"][0]
                 found = [one.arg for one in node.args.args if one.arg != "self"]

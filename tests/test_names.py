@@ -2,18 +2,27 @@
 import random
 import unittest
 
-from sparetails.errors import TooMany
+from sparetails.book import Book
+from sparetails.errors import TailError, TooMany, Unlike
+from sparetails.growings import by_spare_room, plain_growings
 from sparetails.machine import Machine
+from sparetails.moments import row_of, run_to
 from sparetails.needless import lean, left_out, needless
+from sparetails.notation import read_log, read_program, show_deed, show_log, show_program
 from sparetails.places import all_places, statement_at, ways
 from sparetails.programs import Program
+from sparetails.repairs import cheapest, idle, is_repair_paper, open_places, repair_paper, repaired, repairs
 from sparetails.runs import looks, shared, walk, wrong_look
+from sparetails.spoilings import fewest_steps, first_spoiling, is_plain, spoilings
+from sparetails.standing import bar, outcomes, with_calls
 from sparetails.statements import bodies, copying, made, named, read, sharing
 from sparetails.steps import behind, begin_row, called, followers, spoiled
 from sparetails.tables import Table, is_closed
 from sparetails.watching import alive, are_watched_rows, passed, watched, watched_rows
 from sparetails.ways import is_way_to_look, steps_to_end, steps_to_look, steps_to_result, way_to_look
+from sparetails.wrongruns import is_wrong_run, seen_wrong, wrong_run
 from tests.drawing import dense_program, drawn_machine, drawn_program
+from tests.test_book import drawn_deed
 
 NEWER = {"p": "aa", "q": "ab", "r": "kkkkkkkk", "s": "zz"}
 # "main" keeps its name, so the others have to stay on their sides of it.
@@ -57,6 +66,29 @@ def renamed_shape(shape):
 
 def renamed_row(row):
     return (CALLED[row[0]], row[1], row[2], renamed_shape(row[3]))
+
+
+def renamed_repair(repair):
+    return tuple(renamed_place(place) for place in repair)
+
+
+def renamed_victim(told):
+    """A tuple whose last three are a function, an address and a victim."""
+    *first, function, address, victim = told
+    return (*first, CALLED[function], address, NEWER.get(victim, victim))
+
+
+def renamed_function(told):
+    parameters, body, result = told
+    return ([NEWER[one] for one in parameters], [renamed(item) for item in body], NEWER[result])
+
+
+def renamed_deed(deed):
+    word, name = deed[:2]
+    if word == "function":
+        return (word, CALLED[name], renamed_function(deed[2]))
+    more = (deed[2], renamed(deed[3])) if len(deed) == 4 else deed[2:]
+    return (word, CALLED[name], *more)
 
 
 class Names(unittest.TestCase):
@@ -184,6 +216,101 @@ class Names(unittest.TestCase):
                     for end in table.ends(function, entry):
                         self.assertEqual(behind(other, there, renamed_row(end)), sorted(map(renamed_row, behind(program, row, end))))
             rows_seen += len(table)
+
+    def small_programs(self, seed, many, most=150, names=("p", "r", "s")):
+        """Programs with tables that are not great, and these renamed."""
+        source = random.Random(seed)
+        found = []
+        while len(found) < many:
+            program = dense_program(source, names)
+            try:
+                for growing in ("exact", "spare"):
+                    Table(program, growing, most=most)
+            except TooMany:
+                continue
+            found.append((program, renamed_program(program)))
+        return found
+
+    def test_moments_spoilings_and_wrong_runs(self):
+        source = random.Random(134)
+        for program, other in self.small_programs(135, 40):
+            for growing in ("exact", "spare"):
+                self.assertEqual(spoilings(other, growing), sorted(map(renamed_victim, spoilings(program, growing))))
+                self.assertIs(is_plain(other, growing), is_plain(program, growing))
+                self.assertEqual(fewest_steps(other, growing), fewest_steps(program, growing))
+                run = drawn_machine(source, program, growing, 30).run()
+                told, row = first_spoiling(program, run), row_of(program, run)
+                self.assertEqual(first_spoiling(other, run), None if told is None else renamed_victim(told))
+                self.assertEqual(row_of(other, run), None if row is None else renamed_row(row))
+                self.assertEqual(seen_wrong(other, run), seen_wrong(program, run))
+                wrong = wrong_run(program, growing)
+                if wrong is not None:
+                    self.assertIs(is_wrong_run(other, growing, wrong), True)
+                    self.assertIs(is_wrong_run(program, growing, wrong_run(other, growing)), True)
+                for row in Table(program, growing).rows()[::9]:
+                    to = run_to(other, growing, renamed_row(row))
+                    self.assertEqual(row_of(program, to), row)
+            self.assertEqual(plain_growings(other), plain_growings(program))
+            self.assertIs(by_spare_room(other) is None, by_spare_room(program) is None)
+
+    def test_repairs(self):
+        done = 0
+        for program, other in self.small_programs(136, 200, 60):
+            self.assertEqual(open_places(other), list(renamed_repair(open_places(program))))
+            if len(open_places(program)) > 6 or is_plain(program, "spare"):
+                continue
+            done += 1
+            told = repairs(program, "spare")
+            self.assertEqual(repairs(other, "spare"), [renamed_repair(repair) for repair in told])
+            prices = {place: at % 3 for at, place in enumerate(all_places(program))}
+            cheap = cheapest(program, "spare", prices)
+            newer = {renamed_place(place): price for place, price in prices.items()}
+            self.assertEqual(cheapest(other, "spare", newer), cheap and (cheap[0], [renamed_repair(repair) for repair in cheap[1]]))
+            goods, bads = repair_paper(program, "spare")
+            bads = [(renamed_repair(repair), run) for repair, run in bads]
+            self.assertIs(is_repair_paper(other, "spare", [renamed_repair(good) for good in goods], bads), True)
+            for repair in told:
+                self.assertEqual(repaired(other, renamed_repair(repair)), renamed_program(repaired(program, repair)))
+                self.assertEqual(idle(repaired(other, renamed_repair(repair)), "spare"),
+                                 list(renamed_repair(idle(repaired(program, repair), "spare"))))
+        self.assertGreater(done, 10)
+
+    def test_standing(self):
+        done = 0
+        for program, other in self.small_programs(137, 120, 60, ("r", "s")):
+            for function, entry in Table(program, "spare").entries():
+                if function != "main":
+                    self.assertEqual(outcomes(other, "spare", CALLED[function], entry), outcomes(program, "spare", function, entry))
+            if len(program.functions()) == 3 and done < 8:
+                try:
+                    told = bar(program, "f", "g", "exact")
+                    self.assertEqual(bar(other, CALLED["f"], CALLED["g"], "exact"), told)
+                    done += 1
+                    self.assertEqual(with_calls(other, CALLED["g"], CALLED["f"]), renamed_program(with_calls(program, "g", "f")))
+                except (TailError, Unlike):
+                    continue
+        self.assertGreater(done, 3)
+
+    def test_books_and_texts(self):
+        source = random.Random(138)
+        done = 0
+        for _ in range(40):
+            program = drawn_program(source, most=6)
+            book, other = Book(program), Book(renamed_program(program))
+            for _ in range(10):
+                deed = drawn_deed(source, book.program())
+                if deed[1] not in CALLED:
+                    continue
+                self.assertIs(other.tried(renamed_deed(deed)), book.tried(deed))
+                if book.tried(deed):
+                    self.assertEqual(list(other.do(renamed_deed(deed))), [renamed_place(place) for place in book.do(deed)])
+                    self.assertEqual(other.program(), renamed_program(book.program()))
+                    self.assertEqual(show_deed(other.log()[-1]), show_deed(renamed_deed(book.log()[-1])))
+                    done += 1
+            self.assertEqual(other.log(), [renamed_deed(deed) for deed in book.log()])
+            self.assertEqual(read_log(renamed_program(program), show_log(other)), other)
+            self.assertEqual(read_program(show_program(other.program())), renamed_program(book.program()))
+        self.assertGreater(done, 100)
 
 
 if __name__ == "__main__":
