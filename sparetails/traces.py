@@ -89,10 +89,12 @@ class Trace:
             lengths[array]["^"] = length
         for array, length in _greatest(self._stored_since(begun), lengths).items():
             lengths[array]["!"] = length
-        for array, points in lengths.items():
-            if self._growing == "exact" or array in self._with_room:
-                points["="] = self.machine.room_of(array)
-        return shape_of([_order_of(points) for points in lengths.values()])
+        return shape_of([_order_of({**points, **self._room_point(array)}) for array, points in lengths.items()])
+
+    def _room_point(self, array):
+        """The dict from the point of the room of an array to it, if rows tell it."""
+        is_told = self._growing == "exact" or array in self._with_room
+        return {"=": self.machine.room_of(array)} if is_told else {}
 
     def row(self):
         """The row in which the call at work stands."""

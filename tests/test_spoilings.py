@@ -251,7 +251,7 @@ class Spoilings(unittest.TestCase):
                     if found is not None:
                         self.assertIn(found[1:], told)
                         self.assertGreaterEqual(found[0] + 1, fewest)
-                        met[(program.functions().__repr__(), growing, *found[1:])] = True
+                        met[(repr(program.functions()), growing, *found[1:])] = True
         self.assertGreater(len(met), 15)
 
     def test_by_hand(self):
