@@ -30,11 +30,13 @@ class Lengths:
     def least(self, bottom):
         """The list of the least numbers, none below the bottom, with which all holds that is asked."""
         numbers = [bottom] * self._many
-        going = True
-        while going:
+        # Each round settles one more number of each chain at least.
+        for _ in range(self._many):
             going = False
             for upper, lower, gap in self._gaps:
                 if numbers[upper] < numbers[lower] + gap:
                     numbers[upper] = numbers[lower] + gap
                     going = True
+            if not going:
+                break
         return numbers

@@ -160,6 +160,22 @@ class RunTo(unittest.TestCase):
                         ("look", "r"), ("look", "s"), ("look", "t"), ("look", "u")], f=(["p"], [("cut", "q", "p")], "q"))
         self.assertGreater(self.check(program, "exact", 1000), 50)
 
+    def test_what_is_kept_again_and_again(self):
+        for body in ([("cut", "t", "s"), ("keep", "t"), ("keep", "s"), ("cut", "u", "s"), ("look", "s"), ("look", "u")],
+                     [("keep", "s"), ("cut", "t", "s"), ("keep", "t"), ("cut", "u", "s"), ("look", "t"), ("look", "u")],
+                     [("cut", "t", "s"), ("keep", "t"), ("put", "u", "t"), ("keep", "u"), ("cut", "t", "u"), ("keep", "t"), ("look", "t")]):
+            for growing in GROWINGS:
+                self.assertGreater(self.check(main(body), growing, 1000), 10)
+
+    def test_what_is_kept_by_both(self):
+        """The store has windows of the caller, and of the called function, one higher than the other."""
+        f = (["p"], [("either", [[("cut", "q", "p"), ("keep", "q")], [("put", "q", "p"), ("keep", "q")], []])], "q")
+        for body in ([("cut", "t", "s"), ("keep", "s"), ("call", "u", "f", ("t",)), ("look", "t"), ("look", "s"), ("look", "u")],
+                     [("cut", "t", "s"), ("keep", "t"), ("call", "u", "f", ("s",)), ("cut", "t", "s"), ("look", "t"), ("look", "u")],
+                     [("cut", "t", "s"), ("keep", "t"), ("call", "s", "f", ("t",)), ("call", "s", "f", ("s",)), ("look", "s")]):
+            for growing in GROWINGS:
+                self.assertGreater(self.check(main(body, f=f), growing, 1000), 20)
+
     def test_cuts_and_copies_that_need_long_windows(self):
         body = [("cut", "b", "a"), ("cut", "c", "b"), ("copy", "d", "c"), ("cut", "a", "d"), ("cut", "b", "a"), ("cut", "c", "b")]
         program = main(body + [("look", name) for name in "abcd"], "a")
