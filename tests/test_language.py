@@ -4,6 +4,8 @@ import builtins
 import pathlib
 import unittest
 
+from tests.unchanging import faults
+
 FOLDER = pathlib.Path(__file__).resolve().parent.parent / "sparetails"
 
 INTERFACE = {
@@ -310,6 +312,9 @@ class Files(unittest.TestCase):
                     self.assertNotIsInstance(part, (ast.AugAssign, ast.For, ast.While), (name, node.name))
                     if isinstance(part, (ast.Attribute, ast.Subscript)):
                         self.assertIsInstance(part.ctx, ast.Load, (name, node.name))
+
+    def test_what_operators_and_properties_call_changes_nothing(self):
+        self.assertEqual(faults(self.trees), [])
 
     def test_tables_at_module_level_hold_no_lists(self):
         for name, tree in self.trees.items():
